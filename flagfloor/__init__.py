@@ -1,0 +1,1 @@
+"""Floors of squares laid with double flags, turned two by two."""
