@@ -1,5 +1,6 @@
 """Layings: which lists are layings of a floor, and a laying or a wall for each floor."""
 
+from flagfloor.errors import NoLaying
 from flagfloor.floors import check_floor, marked, neighbours
 
 
@@ -28,6 +29,11 @@ def is_laying(floor, flags):
     if not all([flag[2] in (0, 1) for flag in flags]):
         return False
     return are_in_order(flags) and all_under(flags) == floor
+
+
+def check_laying(floor, flags):
+    if not is_laying(floor, flags):
+        raise NoLaying("the flags are no laying of the floor")
 
 
 # Neighbours always differ in this, so it parts the floor into two halves, and each flag covers one of each.

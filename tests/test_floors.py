@@ -4,7 +4,8 @@ import unittest
 from flagfloor.errors import NoFloor
 from flagfloor.floors import inner, is_plain
 from tests.helper import (
-    BOARD, NO_FLOORS, RING, drawn, floors_within, keeps_plain_words, rectangle, scattered_floors, without,
+    BOARD, NO_FLOORS, RING, drawn, floors_within, inner_by_words, keeps_plain_words, rectangle, scattered_floors,
+    without,
 )
 
 DIAMOND = [(3, 4), (4, 3), (4, 5), (5, 4)]
@@ -147,11 +148,7 @@ class InnerTest(unittest.TestCase):
 
     def test_words_of_the_document_on_many_floors(self):
         for floor in scattered_floors(160, 5):
-            expected = [
-                (row, column) for row in range(1, 8) for column in range(1, 8)
-                if {(row - 1, column - 1), (row - 1, column), (row, column - 1), (row, column)} <= set(floor)
-            ]
-            self.assertEqual(inner(floor), expected)
+            self.assertEqual(inner(floor), inner_by_words(floor))
 
     def test_answer_is_a_list_of_tuples(self):
         answer = inner(BOARD)

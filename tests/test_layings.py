@@ -6,14 +6,9 @@ from flagfloor.errors import NoFloor
 from flagfloor.floors import is_plain
 from flagfloor.layings import is_laying, lay
 from tests.helper import (
-    BOARD, NO_FLOORS, RING, TOO_LONG_TO_SHOW, VERY_GREAT, drawn, floors_within, keeps_laying_words, keeps_wall_words,
-    rectangle, scattered_floors, scattered_layings, without,
+    BLOCK, BOARD, BOARD_ACROSS, BOARD_DOWN, NO_FLOORS, RING, RING_ROUND, TOO_LONG_TO_SHOW, VERY_GREAT, drawn,
+    floors_within, keeps_laying_words, keeps_wall_words, rectangle, scattered_floors, scattered_layings, without,
 )
-
-BLOCK = [(0, 0), (0, 1), (1, 0), (1, 1)]
-BOARD_ACROSS = [(row, column, 0) for row in range(8) for column in range(0, 8, 2)]
-BOARD_DOWN = [(row, column, 1) for row in range(0, 8, 2) for column in range(8)]
-RING_ROUND = [(2, 3, 0), (2, 5, 1), (3, 3, 1), (4, 4, 0)]
 
 
 class IsLayingTest(unittest.TestCase):
